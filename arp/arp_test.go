@@ -445,7 +445,7 @@ func TestTakenOutMayBeOld(t *testing.T) { // P8.2: by Since, whether ArpKnown or
 	wantAsked(t, c, 20, 2, 70) // 6 goes, which is old
 	wantAll(t, c, asking(2, 0, 0, 1, 1), known(3, 7, 7), known(4, 6, 6), old(5, 5, 69, 1),
 		known(7, 6, 6), known(8, 7, 7), known(9, 8, 8), asking(20, 70, 70, 1, 2))
-	wantHeard(t, c, answer(5), 71, nil, nil, mac(5))
+	wantHeard(t, c, answer(5), 71, nil, nil, api.Mac{})
 	wantAsked(t, c, 21, 3, 71) // 4, which is known, and as long as 7
 	wantAll(t, c, asking(2, 0, 0, 1, 1), known(3, 7, 7), known(5, 71, 69),
 		known(7, 6, 6), known(8, 7, 7), known(9, 8, 8), asking(20, 70, 70, 1, 2), asking(21, 71, 71, 1, 3))
@@ -534,19 +534,40 @@ func TestHeardFromNeighbour(t *testing.T) { // P8.3: whoever it is for, and whet
 		wantTick(t, c, 2, asks(2, 3))
 		wantHeard(t, c, a, 3, duly(a), []int{6, 7}, mac(3))
 		wantAll(t, c, asking(2, 0, 2, 2, 5), known(3, 3, 2))
-		wantHeard(t, c, a, 4, duly(a), nil, mac(3)) // they wait no more
+		wantHeard(t, c, a, 4, duly(a), nil, api.Mac{}) // they wait no more
 		wantAll(t, c, asking(2, 0, 2, 2, 5), known(3, 4, 2))
 		a.SrcMac = mac(99) // another device has the address now
-		wantHeard(t, c, a, 5, duly(a), nil, mac(99))
+		wantHeard(t, c, a, 5, duly(a), nil, api.Mac{})
 		moved := known(3, 5, 2)
 		moved.Mac = mac(99)
 		wantAll(t, c, asking(2, 0, 2, 2, 5), moved)
 		wantFind(t, c, 3, 1, 6, mac(99), nil, nil, api.OK)
 		wantFind(t, c, 3, 1, 69, mac(99), nil, asks(3), api.OK)
 		wantTick(t, c, 71, asks(2, 3))
-		wantHeard(t, c, a, 72, duly(a), nil, mac(99))
+		wantHeard(t, c, a, 72, duly(a), nil, api.Mac{})
 		moved.Since, moved.Asked = 72, 71
 		wantAll(t, c, asking(2, 0, 71, 3, 5), moved)
+	}
+}
+
+func TestHeardWithoutBuffers(t *testing.T) { // P8.3, R3: no address where none waited, but the neighbour's Mac is SrcMac
+	for _, a := range speakers(3) {
+		for _, m := range []api.Mac{mac(3), mac(99), {}, {0, 0, 0, 0, 0, 1}, {255, 255, 255, 255, 255, 255}} {
+			a.SrcMac = m
+			due := api.Neighbour{Ip: ip(3), State: api.ArpKnown, Mac: m}
+			c := made()
+			wantAsked(t, c, 2, 5, 0)
+			wantAsked(t, c, 3, 6, 0)
+			wantHeard(t, c, answer(3), 0, nil, []int{6}, mac(3))
+			wantHeard(t, c, a, 1, duly(a), nil, api.Mac{}) // of one that is ArpKnown
+			due.Since = 1
+			wantAll(t, c, asking(2, 0, 0, 1, 5), due)
+			wantFind(t, c, 3, 7, 65, m, nil, asks(3), api.OK)
+			wantHeard(t, c, a, 66, duly(a), nil, api.Mac{}) // of one that is ArpOld
+			due.Since, due.Asked = 66, 65
+			wantAll(t, c, asking(2, 0, 0, 1, 5), due)
+			wantFind(t, c, 3, 8, 67, m, nil, nil, api.OK)
+		}
 	}
 }
 
@@ -698,7 +719,7 @@ func TestTickOldIsAnswered(t *testing.T) { // P8.3, P8.4
 	wantMac(t, c, 2, 1, 64, asks(2)...)
 	wantTick(t, c, 66, asks(2))
 	wantTick(t, c, 68, asks(2))
-	wantHeard(t, c, answer(2), 69, nil, nil, mac(2))
+	wantHeard(t, c, answer(2), 69, nil, nil, api.Mac{})
 	wantAll(t, c, known(2, 69, 68))
 	wantTick(t, c, 70, nil)
 	wantMac(t, c, 2, 1, 132)
@@ -1004,9 +1025,11 @@ func (m *model) heard(n int, a api.Arp, now int) ([]api.Arp, []int, api.Mac) {
 	}
 	x, ok := m.by[n]
 	may, to := x.Pending, api.Mac{}
+	if x.State == api.ArpAsking { // only for such a one buffers wait, and at least one
+		to = a.SrcMac
+	}
 	switch {
 	case ok:
-		to = a.SrcMac
 		x = known(n, now, x.Asked)
 		x.Mac = a.SrcMac
 		m.by[n] = x
